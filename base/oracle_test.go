@@ -1,58 +1,14 @@
 package base_test
 
 import (
-	"math"
-	"strconv"
-	"strings"
-
 	"ductus/api"
+	"ductus/sample"
 )
 
-// The classes' names, each at its class's number.
-const words = "L R AL EN ES ET AN CS NSM BN B S WS ON LRE LRO RLE RLO PDF LRI RLI FSI PDI"
-
-// Numbers that are no class; some would be another one in 5, 6, 8, 16 or 32 bits.
-var noClasses = []int{
-	-1, -2, -api.R, -api.AL, -api.FSI, 23, 24, 31, 32, 32 + api.R, 32 + api.PDI, 64 + api.B, 64 + api.RLI, 128 + api.AL, 255, 256, 256 + api.B, 99, 0x5d0, 0x2067,
-	1 << 16, 1<<16 + api.FSI, 1<<32 - 1, 1 << 32, 1<<32 + api.R, 1<<32 + api.B, 1<<32 + api.PDI, -1 << 32, -1<<32 + api.RLI, 1<<62 + api.AL,
-	math.MaxInt32, math.MinInt32, math.MaxInt, math.MinInt,
-}
-
-// read: a list of classes' names, or numbers, as in "RLI R 99 PDI".
-func read(text string) []int {
-	var out []int
-	for _, item := range strings.Fields(text) {
-		out = append(out, readOne(item))
-	}
-	return out
-}
-
-func readOne(item string) int {
-	for k, w := range strings.Fields(words) {
-		if w == item {
-			return k
-		}
-	}
-	n, err := strconv.Atoi(item)
-	if err != nil {
-		panic(err)
-	}
-	return n
-}
-
-// show: a list as read reads it.
-func show(l []int) string {
-	names := strings.Fields(words)
-	var out []string
-	for _, k := range l {
-		if k >= 0 && k < len(names) {
-			out = append(out, names[k])
-		} else {
-			out = append(out, strconv.Itoa(k))
-		}
-	}
-	return strings.Join(out, " ")
-}
+var (
+	read, show, everyList, mixedLists = sample.Read, sample.Show, sample.Every, sample.Mixed
+	noClasses                         = sample.NoClasses()
+)
 
 func opens(k int) bool {
 	return k == api.LRI || k == api.RLI || k == api.FSI
@@ -170,48 +126,4 @@ func (o oracle) isolate(i int) int {
 		return 1
 	}
 	return 0
-}
-
-// everyList: each list of up to so many of some classes.
-func everyList(classes []int, most int) func(yield func([]int) bool) {
-	return func(yield func([]int) bool) {
-		goOn(nil, classes, most, yield)
-	}
-}
-
-func goOn(l, classes []int, most int, yield func([]int) bool) bool {
-	if !yield(l) {
-		return false
-	}
-	for _, k := range classes {
-		if len(l) < most && !goOn(append(l[:len(l):len(l)], k), classes, most, yield) {
-			return false
-		}
-	}
-	return true
-}
-
-// mixedLists: so many lists of up to so many of mixed classes, by a rule, always the same ones. The more of each of common there are, the more often it is met.
-func mixedLists(common []int, many, most int) func(yield func([]int) bool) {
-	return func(yield func([]int) bool) {
-		var from []int
-		for k := range 23 {
-			from = append(from, k)
-		}
-		from = append(append(from, noClasses[:6]...), common...)
-		state := uint64(5)
-		next := func(below int) int {
-			state = state*6364136223846793005 + 1442695040888963407
-			return int(state >> 33 % uint64(below))
-		}
-		for range many {
-			l := make([]int, next(most+1))
-			for i := range l {
-				l[i] = from[next(len(from))]
-			}
-			if !yield(l) {
-				return
-			}
-		}
-	}
 }

@@ -20,9 +20,9 @@ const longest = 60
 
 var layers = strings.Fields("utf class pair fold base explicit strip seq weak brack neutral level line order token tree show deriv nfa sim dfa scan norm frag tour balance swap find")
 
-// TestProgram goes from the layers to all that they import of the project, so that packages added later are looked at, too.
+// TestProgram goes from the layers, and from what their tests lean on, to all that they import of the project, so that packages added later are looked at, too.
 func TestProgram(t *testing.T) {
-	work := slices.Clone(layers)
+	work := append(slices.Clone(layers), "sample")
 	seen := map[string]bool{}
 	for len(work) > 0 {
 		p := work[0]

@@ -1,0 +1,119 @@
+// Package sample has lists of classes for the tests of several layers: they are read and shown by the classes' names; there is each short one, and there are mixed ones. No layer calls it.
+package sample
+
+import (
+	"iter"
+	"math"
+	"strconv"
+	"strings"
+
+	"ductus/api"
+)
+
+// The classes' names, each at its class's number: not layer 2's own, so that a test tells when those are wrong.
+const words = "L R AL EN ES ET AN CS NSM BN B S WS ON LRE LRO RLE RLO PDF LRI RLI FSI PDI"
+
+// Classes: each of them, rising.
+func Classes() []int {
+	var out []int
+	for k := range len(strings.Fields(words)) {
+		out = append(out, k)
+	}
+	return out
+}
+
+// NoClasses: numbers that are no class; some would be one in 5, 6, 8, 16 or 32 bits.
+func NoClasses() []int {
+	return []int{
+		-1, -2, -api.R, -api.AL, -api.FSI, 23, 24, 31, 32, 32 + api.R, 32 + api.PDI, 64 + api.B, 64 + api.RLI, 128 + api.AL, 255, 256, 256 + api.B, 99, 0x5d0, 0x2067,
+		1 << 16, 1<<16 + api.FSI, 1<<32 - 1, 1 << 32, 1<<32 + api.R, 1<<32 + api.B, 1<<32 + api.PDI, -1 << 32, -1<<32 + api.RLI, 1<<62 + api.AL,
+		math.MaxInt32, math.MinInt32, math.MaxInt, math.MinInt,
+	}
+}
+
+// Read: a list of classes' names, or numbers, as in "RLI R 99 PDI"; each may say how often it stands there, as in "RLE*63 L". What can't be read panics, as that is a test's own fault.
+func Read(text string) []int {
+	var out []int
+	for _, item := range strings.Fields(text) {
+		name, count, often := strings.Cut(item, "*")
+		n := 1
+		if often {
+			n = number(count)
+		}
+		for range n {
+			out = append(out, readOne(name))
+		}
+	}
+	return out
+}
+
+func readOne(name string) int {
+	for k, w := range strings.Fields(words) {
+		if w == name {
+			return k
+		}
+	}
+	return number(name)
+}
+
+func number(text string) int {
+	n, err := strconv.Atoi(text)
+	if err != nil {
+		panic(err)
+	}
+	return n
+}
+
+// Show: a list as Read reads it.
+func Show(l []int) string {
+	names := strings.Fields(words)
+	var out []string
+	for _, k := range l {
+		if k >= 0 && k < len(names) {
+			out = append(out, names[k])
+		} else {
+			out = append(out, strconv.Itoa(k))
+		}
+	}
+	return strings.Join(out, " ")
+}
+
+// Every: each list of up to so many of some numbers.
+func Every(numbers []int, most int) iter.Seq[[]int] {
+	return func(yield func([]int) bool) {
+		goOn(nil, numbers, most, yield)
+	}
+}
+
+func goOn(l, numbers []int, most int, yield func([]int) bool) bool {
+	if !yield(l) {
+		return false
+	}
+	for _, k := range numbers {
+		if len(l) < most && !goOn(append(l[:len(l):len(l)], k), numbers, most, yield) {
+			return false
+		}
+	}
+	return true
+}
+
+// Mixed: so many lists of up to so many of mixed classes, and what is none, by a rule, always the same ones. The more of each of common there are, the more often it is met.
+func Mixed(common []int, many, most int) iter.Seq[[]int] {
+	from := append(append(Classes(), NoClasses()[:6]...), common...)
+	return func(yield func([]int) bool) {
+		state := uint64(5)
+		next := func(below int) int {
+			state = state*6364136223846793005 + 1442695040888963407
+			return int(state >> 33 % uint64(below))
+		}
+		for range many {
+			l := make([]int, next(most+1))
+			for i := range l {
+				l[i] = from[next(len(from))]
+			}
+			if !yield(l) {
+				return
+			}
+		}
+	}
+}

@@ -1,0 +1,76 @@
+package sample_test
+
+import (
+	"slices"
+	"testing"
+
+	"ductus/api"
+	"ductus/sample"
+)
+
+// What the other tests lean on: names are read as their classes, numbers as numbers, each as often as it says.
+func TestRead(t *testing.T) {
+	for _, x := range []struct {
+		text string
+		want []int
+	}{
+		{"", nil},
+		{"L R ON", []int{api.L, api.R, api.ON}},
+		{"RLI 99 -1 PDI", []int{api.RLI, 99, -1, api.PDI}},
+		{"RLE*3 L*0 7*2", []int{api.RLE, api.RLE, api.RLE, api.CS, api.CS}},
+		{"L R AL EN ES ET AN CS NSM BN B S WS ON LRE LRO RLE RLO PDF LRI RLI FSI PDI", sample.Classes()},
+	} {
+		if got := sample.Read(x.text); !slices.Equal(got, x.want) {
+			t.Errorf("Read of %q: %d, not %d", x.text, got, x.want)
+		}
+	}
+}
+
+// A list that is shown is read as it was.
+func TestShow(t *testing.T) {
+	for l := range sample.Mixed(nil, 200, 40) {
+		if got := sample.Read(sample.Show(l)); !slices.Equal(got, l) {
+			t.Errorf("%d is shown as %s", l, sample.Show(l))
+		}
+	}
+	l := sample.NoClasses()
+	if got := sample.Read(sample.Show(l)); !slices.Equal(got, l) {
+		t.Errorf("%d is shown as %s", l, sample.Show(l))
+	}
+}
+
+// Each short list is there once, and is left when it is asked for no further.
+func TestEvery(t *testing.T) {
+	var got [][]int
+	for l := range sample.Every([]int{7, 8}, 2) {
+		got = append(got, l)
+	}
+	want := [][]int{nil, {7}, {7, 7}, {7, 8}, {8}, {8, 7}, {8, 8}}
+	if !slices.EqualFunc(got, want, slices.Equal) {
+		t.Errorf("each list: %d, not %d", got, want)
+	}
+	for l := range sample.Every([]int{7, 8}, 2) {
+		if len(l) == 2 {
+			break
+		}
+	}
+}
+
+// Mixed lists are the same ones each time, with all classes in them, and none is too long.
+func TestMixed(t *testing.T) {
+	collect := func() [][]int { return slices.Collect(sample.Mixed([]int{api.FSI}, 300, 20)) }
+	lists := collect()
+	if len(lists) != 300 || !slices.EqualFunc(lists, collect(), slices.Equal) {
+		t.Errorf("%d lists, not 300 that are the same ones each time", len(lists))
+	}
+	for _, k := range append(sample.Classes(), sample.NoClasses()[0]) {
+		if !slices.ContainsFunc(lists, func(l []int) bool { return slices.Contains(l, k) }) {
+			t.Errorf("no list has a %d", k)
+		}
+	}
+	for _, l := range lists {
+		if len(l) > 20 {
+			t.Errorf("a list of %d", len(l))
+		}
+	}
+}
