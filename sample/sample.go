@@ -1,4 +1,4 @@
-// Package sample has lists of classes for the tests of several layers: they are read and shown by the classes' names; there is each short one, and there are mixed ones. No layer calls it.
+// Package sample has lists for the tests of several layers: those of classes are read and shown by the classes' names; of classes, as of other numbers, there is each short one, and there are mixed ones. No layer calls it.
 package sample
 
 import (
@@ -99,7 +99,11 @@ func goOn(l, numbers []int, most int, yield func([]int) bool) bool {
 
 // Mixed: so many lists of up to so many of mixed classes, and what is none, by a rule, always the same ones. The more of each of common there are, the more often it is met.
 func Mixed(common []int, many, most int) iter.Seq[[]int] {
-	from := append(append(Classes(), NoClasses()[:6]...), common...)
+	return MixedOf(append(append(Classes(), NoClasses()[:6]...), common...), many, most)
+}
+
+// MixedOf: so many lists of up to so many of mixed numbers of from, by a rule, always the same ones. The more often one stands in from, the more often it is met.
+func MixedOf(from []int, many, most int) iter.Seq[[]int] {
 	return func(yield func([]int) bool) {
 		state := uint64(5)
 		next := func(below int) int {

@@ -74,3 +74,29 @@ func TestMixed(t *testing.T) {
 		}
 	}
 }
+
+// Mixed lists of other numbers are of these alone, each of them, the same ones each time, of each length up to the longest.
+func TestMixedOf(t *testing.T) {
+	from := []int{'a', 'b', 0x202b, -7}
+	collect := func() [][]int { return slices.Collect(sample.MixedOf(from, 300, 5)) }
+	lists := collect()
+	if len(lists) != 300 || !slices.EqualFunc(lists, collect(), slices.Equal) {
+		t.Errorf("%d lists, not 300 that are the same ones each time", len(lists))
+	}
+	all := slices.Sorted(slices.Values(slices.Concat(lists...)))
+	if got, want := slices.Compact(all), slices.Sorted(slices.Values(from)); !slices.Equal(got, want) {
+		t.Errorf("the lists are of %d, not of %d", got, want)
+	}
+	long := [6]int{}
+	for _, l := range lists {
+		long[len(l)]++
+	}
+	if slices.Contains(long[:], 0) {
+		t.Errorf("so many lists have so many: %d", long)
+	}
+	for l := range sample.MixedOf(from, 300, 5) {
+		if len(l) == 2 {
+			break
+		}
+	}
+}
