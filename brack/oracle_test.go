@@ -2,7 +2,6 @@ package brack_test
 
 import (
 	"fmt"
-	"math"
 	"slices"
 	"strings"
 
@@ -13,23 +12,14 @@ import (
 var (
 	read, show         = sample.Read, sample.Show
 	classes, noClasses = sample.Classes(), sample.NoClasses()
+	even, odd          = sample.Even(), sample.Odd()
+	lefts              = sample.Lefts
 )
 
 // Layer 3's brackets, word by word: the one that opens and the one that closes.
 var couples = [][2]int{
 	{0x28, 0x29}, {0x5b, 0x5d}, {0x7b, 0x7d}, {0x2329, 0x232a}, {0x3008, 0x3009},
 	{0x300a, 0x300b}, {0x300c, 0x300d}, {0x300e, 0x300f}, {0x3010, 0x3011},
-}
-
-// Levels of either direction.
-var (
-	even = []int{0, 2, 4, 62, 124, 126, 256, -2, -4, -126, 1 << 32, -1 << 32, 1 << 62, math.MaxInt32 - 1, math.MinInt32, math.MaxInt - 1, math.MinInt}
-	odd  = []int{1, 3, 5, 63, 125, 127, 257, -1, -3, -125, 1<<32 + 1, -1<<32 + 1, 1<<62 + 1, math.MaxInt32, math.MinInt32 + 1, math.MaxInt, math.MinInt + 1}
-)
-
-// lefts: directions ahead that count as L: all but R; some would be R in fewer bits.
-func lefts() []int {
-	return slices.DeleteFunc(slices.Concat(classes, noClasses), func(k int) bool { return k == api.R })
 }
 
 // list is what one asks of: characters, their classes, and those they had at first.

@@ -1,9 +1,10 @@
-// Package sample has lists for the tests of several layers: those of classes are read and shown by the classes' names; of classes, as of other numbers, there is each short one, and there are mixed ones. No layer calls it.
+// Package sample has lists for the tests of several layers: those of classes are read and shown by the classes' names; of classes, as of other numbers, there is each short one, and there are mixed ones. It tells of a call whether it leaves lists as they were, too. No layer calls it.
 package sample
 
 import (
 	"iter"
 	"math"
+	"slices"
 	"strconv"
 	"strings"
 
@@ -29,6 +30,25 @@ func NoClasses() []int {
 		1 << 16, 1<<16 + api.FSI, 1<<32 - 1, 1 << 32, 1<<32 + api.R, 1<<32 + api.B, 1<<32 + api.PDI, -1 << 32, -1<<32 + api.RLI, 1<<62 + api.AL,
 		math.MaxInt32, math.MinInt32, math.MaxInt, math.MinInt,
 	}
+}
+
+// Lefts: directions ahead and behind that count as L: all numbers of both but R.
+func Lefts() []int {
+	return slices.DeleteFunc(append(Classes(), NoClasses()...), func(k int) bool { return k == api.R })
+}
+
+// Even: levels from left to right: small, great, and below 0.
+func Even() []int {
+	return []int{0, 2, 4, 62, 124, 126, 256, -2, -4, -126, 1 << 32, -1 << 32, 1 << 62, math.MaxInt32 - 1, math.MinInt32, math.MaxInt - 1, math.MinInt}
+}
+
+// Odd: levels from right to left; each is one more than one of Even.
+func Odd() []int {
+	out := Even()
+	for i := range out {
+		out[i]++
+	}
+	return out
 }
 
 // Read: a list of classes' names, or numbers, as in "RLI R 99 PDI"; each may say how often it stands there, as in "RLE*63 L". What can't be read panics, as that is a test's own fault.
@@ -119,5 +139,34 @@ func MixedOf(from []int, many, most int) iter.Seq[[]int] {
 				return
 			}
 		}
+	}
+}
+
+// Fault: what is wrong with a call that is handed a list, with others in the room behind it, and is to answer want: it changes the list or that room, answers either, changes what it answered, or keeps something. One of its answers is filled, to see that. An empty text, if nothing is wrong.
+func Fault[T comparable](l []int, want []T, filled T, call func(l []int) []T) string {
+	whole := slices.Concat(l, Read("EN ET NSM 99 R ON L"))
+	was := slices.Clone(whole)
+	got, other := call(whole[:len(l)]), call(whole[:len(l)])
+	if !slices.Equal(whole, was) {
+		return "changes " + Show(was) + " to " + Show(whole)
+	}
+	fill(other[:cap(other)], filled)
+	if !slices.Equal(whole, was) {
+		return "answers what it was handed, " + Show(l) + ", or the room behind it"
+	}
+	fill(whole, api.B)
+	call(Read("AL EN L EN R NSM ET CS ON WS R"))
+	if !slices.Equal(got, want) {
+		return "changes its answer to " + Show(l)
+	}
+	if again := call(slices.Clone(l)); !slices.Equal(again, want) {
+		return "keeps something from call to call: its answer to " + Show(l) + " is another one"
+	}
+	return ""
+}
+
+func fill[T any](l []T, filled T) {
+	for i := range l {
+		l[i] = filled
 	}
 }

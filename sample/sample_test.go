@@ -100,3 +100,62 @@ func TestMixedOf(t *testing.T) {
 		}
 	}
 }
+
+// Levels from left to right are even, those from right to left odd, some of each below 0, none twice; directions that count as L are all but R.
+func TestLevelsAndDirections(t *testing.T) {
+	for n, levels := range [][]int{sample.Even(), sample.Odd()} {
+		for _, level := range levels {
+			if level&1 != n {
+				t.Errorf("%d is among levels of the other direction", level)
+			}
+		}
+		if all := slices.Sorted(slices.Values(levels)); len(slices.Compact(all)) != len(levels) || all[0] >= 0 {
+			t.Errorf("levels are %d", levels)
+		}
+	}
+	want := len(sample.Classes()) + len(sample.NoClasses()) - 1
+	if lefts := sample.Lefts(); len(lefts) != want || slices.Contains(lefts, api.R) {
+		t.Errorf("%d directions count as L, not %d: %d", len(lefts), want, lefts)
+	}
+}
+
+// A call that leaves all as it was, and answers what is new, has no fault; those have one that change what they are handed, or the room behind it, answer either, or keep it, or what they answered.
+func TestFault(t *testing.T) {
+	var kept []int
+	for _, x := range []struct {
+		name string
+		want bool
+		call func(l []int) []int
+	}{
+		{"a new list", false, func(l []int) []int { return slices.Clone(l) }},
+		{"no list", true, func(l []int) []int { return nil }},
+		{"the list", true, func(l []int) []int { return l }},
+		{"the room behind it", true, func(l []int) []int { return append(l[len(l):], l...) }},
+		{"a new list, the old one changed", true, func(l []int) []int {
+			out := slices.Clone(l)
+			l[0]++
+			return out
+		}},
+		{"a new list, the room behind the old one changed", true, func(l []int) []int {
+			out := slices.Clone(l)
+			l[:cap(l)][len(l)]++
+			return out
+		}},
+		{"one list each time", true, func(l []int) []int {
+			kept = append(kept[:0], l...)
+			return kept
+		}},
+		{"the first one that was handed in", true, func(l []int) []int {
+			if kept == nil {
+				kept = l
+			}
+			return slices.Clone(kept)
+		}},
+	} {
+		kept = nil
+		fault := sample.Fault([]int{api.L, api.ON}, []int{api.L, api.ON}, 77, x.call)
+		if fault != "" != x.want {
+			t.Errorf("of a call that answers %s: %q", x.name, fault)
+		}
+	}
+}

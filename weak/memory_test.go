@@ -5,6 +5,7 @@ import (
 	"testing"
 
 	"ductus/api"
+	"ductus/sample"
 	"ductus/weak"
 )
 
@@ -38,26 +39,8 @@ func TestNothingIsChanged(t *testing.T) {
 // checkNew: a call's answer is another list than the one it was handed, and than the one it answers another time.
 func checkNew(t *testing.T, l, want []int, call func(l []int) []int) {
 	t.Helper()
-	whole := slices.Concat(l, read("EN ET NSM 99"))
-	was := slices.Clone(whole)
-	got, other := call(whole[:len(l)]), call(whole[:len(l)])
-	if !slices.Equal(whole, was) {
-		t.Errorf("what was handed in was changed from %s to %s", show(was), show(whole))
-	}
-	fill(other[:cap(other)], 77)
-	if !slices.Equal(whole, was) {
-		t.Errorf("the answer is what was handed in, or its spare room: %s is %s", show(was), show(whole))
-	}
-	fill(whole, 78)
-	call(read("AL EN L EN R NSM ET CS"))
-	if !slices.Equal(got, want) {
-		t.Errorf("the answer to %s was changed to %s, not %s", show(l), show(got), show(want))
-	}
-}
-
-func fill(l []int, n int) {
-	for i := range l {
-		l[i] = n
+	if fault := sample.Fault(l, want, 77, call); fault != "" {
+		t.Errorf("it %s", fault)
 	}
 }
 
