@@ -47,7 +47,7 @@ func check(t *testing.T, chars []int, dir, base int, levels, told []int) bool {
 		return false
 	}
 	if got := level.Classes(chars, dir); !slices.Equal(got, told) {
-		t.Errorf("Classes of %s, with %d: %s, not %s", show(chars), dir, head(strings.Fields(sample.Show(got))), head(strings.Fields(sample.Show(told))))
+		t.Errorf("Classes of %s, with %d: %s, not %s", show(chars), dir, sample.Words(got), sample.Words(told))
 		return false
 	}
 	whole := len(slices.Compact(slices.Clone(levels))) <= 1
