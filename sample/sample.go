@@ -1,4 +1,4 @@
-// Package sample has lists for the tests of several layers: those of classes are read and shown by the classes' names, and texts are written by them; of classes, as of other numbers, there is each short one, and there are mixed ones. Patterns are written as texts, and made of pieces. It tells of a call whether it leaves lists as they were, too. No layer calls it.
+// Package sample has lists for the tests of several layers: those of classes are read and shown by the classes' names, and texts are written by them; of classes, as of other numbers, there is each short one, and there are mixed ones. Patterns are written as texts, and made of pieces; trees are told, shown, and made of some nodes. It tells of a call whether it leaves lists as they were, too. No layer calls it.
 package sample
 
 import (

@@ -9,12 +9,13 @@ import (
 	"ductus/api"
 	"ductus/fold"
 	"ductus/pair"
+	"ductus/sample"
 	"ductus/tree"
 )
 
 func checkClose(t *testing.T, l []api.Range, flags int, want []api.Range) {
 	t.Helper()
-	checkRanges(t, "Close by "+strconv.Itoa(flags)+" of "+shownRanges(l), tree.Close(l, flags), want)
+	checkRanges(t, "Close by "+strconv.Itoa(flags)+" of "+sample.ShowRanges(l), tree.Close(l, flags), want)
 }
 
 // checkCloses: Close by each of the flags from 0 to 7, by the chapter's words.

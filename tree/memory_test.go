@@ -43,12 +43,12 @@ func TestNothingIsChanged(t *testing.T) {
 			got, other := call(whole[:len(l)]), call(whole[:len(l)])
 			fill(other, api.Range{Low: 66, High: 99})
 			if !slices.Equal(whole, was) {
-				t.Errorf("call %d of %s: changes it, or answers it", i, head(shownRanges(l)))
+				t.Errorf("call %d of %s: changes it, or answers it", i, sample.Head(sample.ShowRanges(l)))
 			}
 			fill(whole, api.Range{Low: 3, High: 4})
 			call(spare)
-			checkRanges(t, "later, of "+shownRanges(l), got, want)
-			checkRanges(t, "again, of "+shownRanges(l), call(slices.Clone(l)), want)
+			checkRanges(t, "later, of "+sample.ShowRanges(l), got, want)
+			checkRanges(t, "again, of "+sample.ShowRanges(l), call(slices.Clone(l)), want)
 		}
 	}
 }
@@ -60,7 +60,7 @@ func TestSpareRoomIsNotRead(t *testing.T) {
 		for from := range whole {
 			for to := from; to <= len(whole); to++ {
 				if got, want := call(whole[from:to]), call(slices.Clone(whole[from:to])); !slices.Equal(got, want) {
-					t.Errorf("call %d of %s: %s, not %s", i, shownRanges(whole[from:to]), shownRanges(got), shownRanges(want))
+					t.Errorf("call %d of %s: %s, not %s", i, sample.ShowRanges(whole[from:to]), sample.ShowRanges(got), sample.ShowRanges(want))
 				}
 			}
 		}
@@ -90,18 +90,18 @@ func TestParseChangesNothing(t *testing.T) {
 		l := sample.Chars(text)
 		whole := slices.Concat(l, sample.Chars(")*|?]"))
 		was := slices.Clone(whole)
-		want := shown(parsed(slices.Clone(l), 1))
+		want := sample.ShowTree(parsed(slices.Clone(l), 1))
 		got := parsed(whole[:len(l)], 1)
 		if !slices.Equal(whole, was) {
 			t.Errorf("Parse of %q changes it", text)
 		}
 		fill(whole, '|')
 		other := parsed(l, 1)
-		for _, n := range nodes(&other) {
+		for _, n := range sample.Nodes(&other) {
 			fill(n.Ranges, api.Range{Low: 66, High: 99})
 		}
-		if shown(got) != want || shown(parsed(l, 1)) != want {
-			t.Errorf("Parse of %q, later: %s, not %s", text, shown(got), want)
+		if sample.ShowTree(got) != want || sample.ShowTree(parsed(l, 1)) != want {
+			t.Errorf("Parse of %q, later: %s, not %s", text, sample.ShowTree(got), want)
 		}
 	}
 }
@@ -110,15 +110,15 @@ func TestParseChangesNothing(t *testing.T) {
 func TestNoTwoListsShare(t *testing.T) {
 	for _, text := range some {
 		whole := parsed(sample.Chars(text), 3)
-		for i := range nodes(&whole) {
+		for i := range sample.Nodes(&whole) {
 			n := parsed(sample.Chars(text), 3)
-			all := nodes(&n)
-			want := copied(n)
-			same := nodes(&want)
+			all := sample.Nodes(&n)
+			want := sample.Copied(n)
+			same := sample.Nodes(&want)
 			fill(all[i].Ranges, api.Range{Low: 66, High: 99})
 			fill(same[i].Ranges, api.Range{Low: 66, High: 99})
 			fill(all[i].Kids[len(all[i].Kids):], api.Node{Kind: 77})
-			if shown(n) != shown(want) {
+			if sample.ShowTree(n) != sample.ShowTree(want) {
 				t.Errorf("%q: its node %d shares a list with another one", text, i)
 			}
 		}
@@ -128,15 +128,15 @@ func TestNoTwoListsShare(t *testing.T) {
 // P16.1, by the rules: trees and ranges that Size, Same and Has look at stay as they were.
 func TestTreesStay(t *testing.T) {
 	for n := range mixedTrees(300) {
-		was := copied(n)
+		was := sample.Copied(n)
 		tree.Size(n)
 		tree.Same(n, was)
 		tree.Same(was, n)
-		for _, node := range nodes(&n) {
+		for _, node := range sample.Nodes(&n) {
 			tree.Has(node.Ranges, 5)
 		}
-		if shown(n) != shown(was) {
-			t.Errorf("%s is %s", shown(was), shown(n))
+		if sample.ShowTree(n) != sample.ShowTree(was) {
+			t.Errorf("%s is %s", sample.ShowTree(was), sample.ShowTree(n))
 		}
 	}
 	l := between(5, 9, 1, 2, 3, 3)

@@ -136,10 +136,10 @@ func TestTreesAreRight(t *testing.T) {
 		if size := tree.Size(n); size > 400 {
 			t.Errorf("Parse of %s: size %d", sample.Quoted(l), size)
 		}
-		for _, node := range nodes(&n) {
+		for _, node := range sample.Nodes(&n) {
 			several := node.Kind == 3 || node.Kind == 4
 			if node.Kind < 1 || node.Kind > 7 || several && len(node.Kids) < 2 || node.Kind == 5 && len(node.Kids) != 1 || !several && node.Kind != 5 && len(node.Kids) > 0 || node.Kind != 2 && len(node.Ranges) > 0 || node.Kind != 5 && (node.Low != 0 || node.High != 0) {
-				t.Errorf("Parse of %s: %s", sample.Quoted(l), shown(n))
+				t.Errorf("Parse of %s: %s", sample.Quoted(l), sample.ShowTree(n))
 			}
 			checkLeast(t, node.Ranges)
 		}

@@ -4,10 +4,10 @@ import (
 	"math/big"
 	"slices"
 	"strconv"
-	"strings"
 	"testing"
 
 	"ductus/api"
+	"ductus/sample"
 	"ductus/token"
 )
 
@@ -163,15 +163,6 @@ var (
 	space = between(0x9, 0xd, 0x20, 0x20, 0x85, 0x85, 0xa0, 0xa0, 0x2028, 0x2029)
 	words = between(0x30, 0x39, 0x41, 0x5a, 0x5f, 0x5f, 0x61, 0x7a, 0xc0, 0xd6, 0xd8, 0xf6, 0xf8, 0x24f, 0x370, 0x3ff, 0x400, 0x4ff, 0x5d0, 0x5ea, 0x620, 0x64a, 0x660, 0x669)
 )
-
-// between: ranges of a Low, a High, and so on.
-func between(ends ...int) []api.Range {
-	var out []api.Range
-	for i := 0; i < len(ends); i += 2 {
-		out = append(out, api.Range{Low: ends[i], High: ends[i+1]})
-	}
-	return out
-}
 
 // partOf: the set of one token of a class, or of one that stands alone.
 func partOf(t api.Token, flags int) has {
@@ -364,45 +355,10 @@ func sizeOf(n api.Node) *big.Int {
 	return out.Add(out, big.NewInt(1))
 }
 
-// shown: a tree as a text, that no other one has.
-func shown(n api.Node) string {
-	out := strconv.Itoa(n.Kind)
-	if n.Low != 0 || n.High != 0 {
-		out += "{" + strconv.Itoa(n.Low) + "," + strconv.Itoa(n.High) + "}"
-	}
-	if len(n.Ranges) > 0 {
-		out += shownRanges(n.Ranges)
-	}
-	if len(n.Kids) == 0 {
-		return out
-	}
-	var kids []string
-	for _, kid := range n.Kids {
-		kids = append(kids, shown(kid))
-	}
-	return out + "(" + strings.Join(kids, " ") + ")"
-}
-
-func shownRanges(l []api.Range) string {
-	var out []string
-	for _, r := range l {
-		out = append(out, strconv.FormatInt(int64(r.Low), 16)+".."+strconv.FormatInt(int64(r.High), 16))
-	}
-	return "[" + strings.Join(out, " ") + "]"
-}
-
-// head: of a very long text the beginning.
-func head(text string) string {
-	if most := 600; len(text) > most {
-		return text[:most] + "..."
-	}
-	return text
-}
-
 // checkRanges: a call answers these ranges, in this order.
 func checkRanges(t *testing.T, call string, got, want []api.Range) {
 	t.Helper()
 	if !slices.Equal(got, want) {
-		t.Errorf("%s: %s, not %s", head(call), head(shownRanges(got)), head(shownRanges(want)))
+		t.Errorf("%s: %s, not %s", sample.Head(call), sample.Head(sample.ShowRanges(got)), sample.Head(sample.ShowRanges(want)))
 	}
 }

@@ -15,8 +15,8 @@ import (
 func checkList(t *testing.T, l []int, flags int, want api.Node, at int, e api.Errno) {
 	t.Helper()
 	n, place, told := tree.Parse(l, flags)
-	if place != at || told != e || shown(n) != shown(want) {
-		t.Errorf("Parse of %s by %d: %s, %d, error %d; not %s, %d, error %d", sample.Quoted(l), flags, head(shown(n)), place, told, head(shown(want)), at, e)
+	if place != at || told != e || sample.ShowTree(n) != sample.ShowTree(want) {
+		t.Errorf("Parse of %s by %d: %s, %d, error %d; not %s, %d, error %d", sample.Quoted(l), flags, sample.Head(sample.ShowTree(n)), place, told, sample.Head(sample.ShowTree(want)), at, e)
 	}
 }
 

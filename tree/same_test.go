@@ -6,6 +6,7 @@ import (
 	"testing"
 
 	"ductus/api"
+	"ductus/sample"
 	"ductus/tree"
 )
 
@@ -13,18 +14,9 @@ func checkSame(t *testing.T, a, b api.Node, want bool) {
 	t.Helper()
 	for _, x := range [][2]api.Node{{a, b}, {b, a}} {
 		if got := tree.Same(x[0], x[1]); got != want {
-			t.Errorf("Same of %s and %s: %t", head(shown(x[0])), head(shown(x[1])), got)
+			t.Errorf("Same of %s and %s: %t", sample.Head(sample.ShowTree(x[0])), sample.Head(sample.ShowTree(x[1])), got)
 		}
 	}
-}
-
-// copied: the same tree, in other memory, what is empty in it not nil.
-func copied(n api.Node) api.Node {
-	out := api.Node{Kind: n.Kind, Low: n.Low, High: n.High, Ranges: append([]api.Range{}, n.Ranges...), Kids: []api.Node{}}
-	for _, kid := range n.Kids {
-		out.Kids = append(out.Kids, copied(kid))
-	}
-	return out
 }
 
 // whole: a tree with all that may be in one.
@@ -36,8 +28,8 @@ func whole() api.Node {
 func TestSame(t *testing.T) {
 	for _, n := range []api.Node{{}, empty, start, stop, char('a'), set(), set('0', '9', 'a', 'f'), join(), join(char('a'), char('b')), either(char('a'), empty), repeat(0, -1, char('a')), repeat(3, 7, empty), {Kind: 99, Low: 1, High: math.MinInt, Ranges: between(9, 3), Kids: []api.Node{{Kind: -1}}}, whole()} {
 		checkSame(t, n, n, true)
-		checkSame(t, n, copied(n), true)
-		checkSame(t, join(n, n), join(copied(n), n), true)
+		checkSame(t, n, sample.Copied(n), true)
+		checkSame(t, join(n, n), join(sample.Copied(n), n), true)
 	}
 	checkSame(t, api.Node{Kind: 2}, api.Node{Kind: 2, Ranges: []api.Range{}, Kids: []api.Node{}}, true)
 }
@@ -80,11 +72,11 @@ func TestNotSame(t *testing.T) {
 		func(n *api.Node) { n.Kids[1].High = -1 },
 		func(n *api.Node) { slices.Reverse(n.Kids) },
 	} {
-		other := copied(base)
+		other := sample.Copied(base)
 		change(&other)
 		checkSame(t, base, other, false)
 		checkSame(t, join(char('x'), base), join(char('x'), other), false)
-		checkSame(t, other, copied(other), true)
+		checkSame(t, other, sample.Copied(other), true)
 		for _, many := range []int{1, 2, 3, 50, 200} {
 			checkSame(t, nested(base, many), nested(other, many), false)
 		}
@@ -100,20 +92,11 @@ func TestNotSame(t *testing.T) {
 	checkSame(t, api.Node{}, empty, false)
 }
 
-// nodes: all nodes of a tree, where they stand.
-func nodes(n *api.Node) []*api.Node {
-	out := []*api.Node{n}
-	for i := range n.Kids {
-		out = append(out, nodes(&n.Kids[i])...)
-	}
-	return out
-}
-
 // P16.1: one thing that differs anywhere in a tree.
 func TestNotSameAnywhere(t *testing.T) {
 	base := whole()
-	all := copied(base)
-	for i := range nodes(&all) {
+	all := sample.Copied(base)
+	for i := range sample.Nodes(&all) {
 		for _, change := range []func(n *api.Node){
 			func(n *api.Node) { n.Kind++ },
 			func(n *api.Node) { n.Low++ },
@@ -121,8 +104,8 @@ func TestNotSameAnywhere(t *testing.T) {
 			func(n *api.Node) { n.Ranges = append(n.Ranges, api.Range{}) },
 			func(n *api.Node) { n.Kids = append(n.Kids, empty) },
 		} {
-			other := copied(base)
-			change(nodes(&other)[i])
+			other := sample.Copied(base)
+			change(sample.Nodes(&other)[i])
 			checkSame(t, base, other, false)
 		}
 	}
@@ -131,13 +114,13 @@ func TestNotSameAnywhere(t *testing.T) {
 // P16.1: trees within 200 others that are the same, and mixed ones: they are the same just if they are shown alike.
 func TestSameOfMixedTrees(t *testing.T) {
 	for _, many := range []int{1, 20, 21, 199, 200} {
-		checkSame(t, nested(whole(), many), copied(nested(whole(), many)), true)
+		checkSame(t, nested(whole(), many), sample.Copied(nested(whole(), many)), true)
 		checkSame(t, nested(whole(), many), nested(whole(), many-1), false)
 	}
 	ahead := empty
 	for n := range mixedTrees(2000) {
-		checkSame(t, n, copied(n), true)
-		checkSame(t, n, ahead, shown(n) == shown(ahead))
+		checkSame(t, n, sample.Copied(n), true)
+		checkSame(t, n, ahead, sample.ShowTree(n) == sample.ShowTree(ahead))
 		ahead = n
 	}
 }

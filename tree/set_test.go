@@ -6,13 +6,14 @@ import (
 	"testing"
 
 	"ductus/api"
+	"ductus/sample"
 	"ductus/tree"
 )
 
 func checkSet(t *testing.T, l, want []api.Range) {
 	t.Helper()
-	checkRanges(t, "Set of "+shownRanges(l), tree.Set(l), want)
-	checkRanges(t, "Close without flags of "+shownRanges(l), tree.Close(l, 0), want)
+	checkRanges(t, "Set of "+sample.ShowRanges(l), tree.Set(l), want)
+	checkRanges(t, "Close without flags of "+sample.ShowRanges(l), tree.Close(l, 0), want)
 }
 
 // P16.1: no ranges, one, and such as begin at 0, or end at Top.
@@ -162,7 +163,7 @@ func TestShortSets(t *testing.T) {
 					}
 				}
 				if !slices.Equal(got, want) {
-					t.Fatalf("Set of %s: %s, not %s", shownRanges(l), shownRanges(got), shownRanges(want))
+					t.Fatalf("Set of %s: %s, not %s", sample.ShowRanges(l), sample.ShowRanges(got), sample.ShowRanges(want))
 				}
 			}
 		}

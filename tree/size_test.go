@@ -12,16 +12,14 @@ import (
 )
 
 // Trees as a test tells them.
-
-func set(ends ...int) api.Node         { return api.Node{Kind: 2, Ranges: between(ends...)} }
-func char(c int) api.Node              { return set(c, c) }
-func join(kids ...api.Node) api.Node   { return api.Node{Kind: 3, Kids: kids} }
-func either(kids ...api.Node) api.Node { return api.Node{Kind: 4, Kids: kids} }
-func repeat(low, high int, kids ...api.Node) api.Node {
-	return api.Node{Kind: 5, Low: low, High: high, Kids: kids}
-}
-
 var (
+	between = sample.Between
+	set     = sample.Set
+	char    = sample.Char
+	join    = sample.Join
+	either  = sample.Either
+	repeat  = sample.Repeat
+
 	empty = api.Node{Kind: 1}
 	start = api.Node{Kind: 6}
 	stop  = api.Node{Kind: 7}
@@ -30,7 +28,7 @@ var (
 func checkSize(t *testing.T, n api.Node, want int) {
 	t.Helper()
 	if got := tree.Size(n); got != want {
-		t.Errorf("Size of %s: %d, not %d", head(shown(n)), got, want)
+		t.Errorf("Size of %s: %d, not %d", sample.Head(sample.ShowTree(n)), got, want)
 	}
 }
 

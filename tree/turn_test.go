@@ -5,12 +5,13 @@ import (
 	"testing"
 
 	"ductus/api"
+	"ductus/sample"
 	"ductus/tree"
 )
 
 func checkTurn(t *testing.T, l, want []api.Range) {
 	t.Helper()
-	checkRanges(t, "Turn of "+shownRanges(l), tree.Turn(l), want)
+	checkRanges(t, "Turn of "+sample.ShowRanges(l), tree.Turn(l), want)
 }
 
 // P16.1: none turned round is all, all turned round is none.
@@ -58,7 +59,7 @@ func TestTurnOfMany(t *testing.T) {
 func checkHas(t *testing.T, l []api.Range, c int, want bool) {
 	t.Helper()
 	if got := tree.Has(l, c); got != want {
-		t.Errorf("Has of %s and %x: %t", head(shownRanges(l)), c, got)
+		t.Errorf("Has of %s and %x: %t", sample.Head(sample.ShowRanges(l)), c, got)
 	}
 }
 

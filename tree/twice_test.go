@@ -39,7 +39,7 @@ func mixedSets(many, most int) iter.Seq[[]api.Range] {
 func checkTwice(t *testing.T, l []api.Range) {
 	t.Helper()
 	set := tree.Set(l)
-	told := shownRanges(l)
+	told := sample.ShowRanges(l)
 	checkRanges(t, "Set of Set of "+told, tree.Set(set), set)
 	checkRanges(t, "Turn of Turn of "+told, tree.Turn(tree.Turn(l)), set)
 	checkRanges(t, "Turn of Set of "+told, tree.Turn(set), tree.Turn(l))
@@ -64,7 +64,7 @@ func checkLeast(t *testing.T, l []api.Range) {
 	last := -2
 	for _, r := range l {
 		if r.Low < last+2 || r.Low < 0 || r.Low > r.High || r.High > api.Top {
-			t.Errorf("%s aren't least", shownRanges(l))
+			t.Errorf("%s aren't least", sample.ShowRanges(l))
 		}
 		last = r.High
 	}
@@ -92,7 +92,7 @@ func TestOneOfBoth(t *testing.T) {
 		for _, c := range beside(l) {
 			in, out := tree.Has(set, c), tree.Has(turned, c)
 			if is := 0 <= c && c <= api.Top; in != (is && tree.Has(l, c)) || out != (is && !in) {
-				t.Errorf("%x is in Set of %s: %t, in it turned round: %t", c, shownRanges(l), in, out)
+				t.Errorf("%x is in Set of %s: %t, in it turned round: %t", c, sample.ShowRanges(l), in, out)
 			}
 		}
 	}
@@ -117,7 +117,7 @@ func TestBothLists(t *testing.T) {
 			checkLeast(t, all)
 			for _, c := range append(beside(both), changed...) {
 				if tree.Has(all, c) != (tree.Has(first, c) || tree.Has(second, c)) {
-					t.Errorf("%x in both of %s and %s, by %d: %t", c, shownRanges(ahead), shownRanges(l), flags, tree.Has(all, c))
+					t.Errorf("%x in both of %s and %s, by %d: %t", c, sample.ShowRanges(ahead), sample.ShowRanges(l), flags, tree.Has(all, c))
 				}
 			}
 		}
@@ -129,8 +129,8 @@ func TestBothLists(t *testing.T) {
 func TestMixedSets(t *testing.T) {
 	for l := range mixedSets(400, 10) {
 		edges := edgesOf(l)
-		checkRanges(t, "Set of "+shownRanges(l), tree.Set(l), rangesOf(inOf(l), edges))
-		checkRanges(t, "Turn of "+shownRanges(l), tree.Turn(l), rangesOf(turnOf(inOf(l)), edges))
+		checkRanges(t, "Set of "+sample.ShowRanges(l), tree.Set(l), rangesOf(inOf(l), edges))
+		checkRanges(t, "Turn of "+sample.ShowRanges(l), tree.Turn(l), rangesOf(turnOf(inOf(l)), edges))
 		checkCloses(t, l)
 	}
 }
